@@ -1,0 +1,124 @@
+package frame
+
+import (
+	"go/ast"
+	"go/parser"
+	"go/token"
+	"path/filepath"
+	"strings"
+	"testing"
+)
+
+// ways lists, for each layer that is built, the language features that the document names for it.
+var ways = map[string][]string{
+	"lexer": {"array", "constant-table", "label", "method-value"},
+}
+
+// features say whether the files of a package use a language feature.
+var features = map[string]func(files []*ast.File) bool{
+	"array":          usesArray,
+	"constant-table": usesConstantTable,
+	"label":          usesLabel,
+	"method-value":   usesMethodValue,
+}
+
+func TestWays(t *testing.T) {
+	for layer, list := range ways {
+		files := sources(t, layer)
+		for _, name := range list {
+			if !features[name](files) {
+				t.Errorf("package %s does not use %s", layer, name)
+			}
+		}
+	}
+}
+
+func sources(t *testing.T, layer string) []*ast.File {
+	t.Helper()
+	paths, err := filepath.Glob(filepath.Join("..", layer, "*.go"))
+	if err != nil || len(paths) == 0 {
+		t.Fatal(layer, err)
+	}
+	var files []*ast.File
+	for _, path := range paths {
+		if strings.HasSuffix(path, "_test.go") {
+			continue
+		}
+		file, err := parser.ParseFile(token.NewFileSet(), path, nil, 0)
+		if err != nil {
+			t.Fatal(err)
+		}
+		files = append(files, file)
+	}
+	return files
+}
+
+// anywhere reports whether a node of the files has a property.
+func anywhere(files []*ast.File, has func(n ast.Node) bool) bool {
+	found := false
+	for _, file := range files {
+		ast.Inspect(file, func(n ast.Node) bool {
+			found = found || n != nil && has(n)
+			return !found
+		})
+	}
+	return found
+}
+
+func usesArray(files []*ast.File) bool {
+	return anywhere(files, func(n ast.Node) bool {
+		array, ok := n.(*ast.ArrayType)
+		return ok && array.Len != nil
+	})
+}
+
+func usesConstantTable(files []*ast.File) bool {
+	for _, file := range files {
+		for _, d := range file.Decls {
+			if g, ok := d.(*ast.GenDecl); ok && g.Tok == token.VAR && isTable(g) {
+				return true
+			}
+		}
+	}
+	return false
+}
+
+// isTable reports whether a declaration writes out the value of a variable.
+func isTable(g *ast.GenDecl) bool {
+	for _, s := range g.Specs {
+		if v, ok := s.(*ast.ValueSpec); ok && len(v.Values) == 1 {
+			if _, ok := v.Values[0].(*ast.CompositeLit); ok {
+				return true
+			}
+		}
+	}
+	return false
+}
+
+func usesLabel(files []*ast.File) bool {
+	return anywhere(files, func(n ast.Node) bool {
+		branch, ok := n.(*ast.BranchStmt)
+		return ok && branch.Label != nil
+	})
+}
+
+// usesMethodValue looks for a method of the package that is selected, but not called.
+func usesMethodValue(files []*ast.File) bool {
+	methods := map[string]bool{}
+	called := map[ast.Expr]bool{}
+	anywhere(files, func(n ast.Node) bool {
+		switch n := n.(type) {
+		case *ast.FuncDecl:
+			if n.Recv != nil {
+				methods[n.Name.Name] = true
+			}
+		case *ast.CallExpr:
+			called[n.Fun] = true
+		}
+		return false
+	})
+	return anywhere(files, func(n ast.Node) bool {
+		s, ok := n.(*ast.SelectorExpr)
+		return ok && methods[s.Sel.Name] && !called[s]
+	})
+}
