@@ -11,15 +11,20 @@ import (
 
 // ways lists, for each layer that is built, the language features that the document names for it.
 var ways = map[string][]string{
-	"lexer": {"array", "constant-table", "label", "method-value"},
+	"lexer":  {"array", "constant-table", "label", "method-value"},
+	"parser": {"map", "panic", "defer", "recover"},
 }
 
 // features say whether the files of a package use a language feature.
 var features = map[string]func(files []*ast.File) bool{
 	"array":          usesArray,
 	"constant-table": usesConstantTable,
+	"defer":          usesDefer,
 	"label":          usesLabel,
+	"map":            usesMap,
 	"method-value":   usesMethodValue,
+	"panic":          calls("panic"),
+	"recover":        calls("recover"),
 }
 
 func TestWays(t *testing.T) {
@@ -93,6 +98,34 @@ func isTable(g *ast.GenDecl) bool {
 		}
 	}
 	return false
+}
+
+func usesDefer(files []*ast.File) bool {
+	return anywhere(files, func(n ast.Node) bool {
+		_, ok := n.(*ast.DeferStmt)
+		return ok
+	})
+}
+
+func usesMap(files []*ast.File) bool {
+	return anywhere(files, func(n ast.Node) bool {
+		_, ok := n.(*ast.MapType)
+		return ok
+	})
+}
+
+// calls returns the feature that a function is called by its name.
+func calls(name string) func(files []*ast.File) bool {
+	return func(files []*ast.File) bool {
+		return anywhere(files, func(n ast.Node) bool {
+			call, ok := n.(*ast.CallExpr)
+			if !ok {
+				return false
+			}
+			f, ok := call.Fun.(*ast.Ident)
+			return ok && f.Name == name
+		})
+	}
 }
 
 func usesLabel(files []*ast.File) bool {
