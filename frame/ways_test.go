@@ -5,14 +5,16 @@ import (
 	"go/parser"
 	"go/token"
 	"path/filepath"
+	"slices"
 	"strings"
 	"testing"
 )
 
 // ways lists, for each layer that is built, the language features that the document names for it.
 var ways = map[string][]string{
-	"lexer":  {"array", "constant-table", "label", "method-value"},
-	"parser": {"map", "panic", "defer", "recover"},
+	"lexer":   {"array", "constant-table", "label", "method-value"},
+	"parser":  {"map", "panic", "defer", "recover"},
+	"printer": {"array", "embedding", "variadic", "fallthrough"},
 }
 
 // features say whether the files of a package use a language feature.
@@ -20,11 +22,14 @@ var features = map[string]func(files []*ast.File) bool{
 	"array":          usesArray,
 	"constant-table": usesConstantTable,
 	"defer":          usesDefer,
+	"embedding":      usesEmbedding,
+	"fallthrough":    usesFallthrough,
 	"label":          usesLabel,
 	"map":            usesMap,
 	"method-value":   usesMethodValue,
 	"panic":          calls("panic"),
 	"recover":        calls("recover"),
+	"variadic":       usesVariadic,
 }
 
 func TestWays(t *testing.T) {
@@ -104,6 +109,31 @@ func usesDefer(files []*ast.File) bool {
 	return anywhere(files, func(n ast.Node) bool {
 		_, ok := n.(*ast.DeferStmt)
 		return ok
+	})
+}
+
+func usesEmbedding(files []*ast.File) bool {
+	return anywhere(files, func(n ast.Node) bool {
+		s, ok := n.(*ast.StructType)
+		return ok && slices.ContainsFunc(s.Fields.List, func(f *ast.Field) bool { return len(f.Names) == 0 })
+	})
+}
+
+func usesFallthrough(files []*ast.File) bool {
+	return anywhere(files, func(n ast.Node) bool {
+		branch, ok := n.(*ast.BranchStmt)
+		return ok && branch.Tok == token.FALLTHROUGH
+	})
+}
+
+// usesVariadic looks for a function of the package with any number of parameters.
+func usesVariadic(files []*ast.File) bool {
+	return anywhere(files, func(n ast.Node) bool {
+		f, ok := n.(*ast.FuncType)
+		return ok && slices.ContainsFunc(f.Params.List, func(p *ast.Field) bool {
+			_, ok := p.Type.(*ast.Ellipsis)
+			return ok
+		})
 	})
 }
 
