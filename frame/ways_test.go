@@ -15,11 +15,13 @@ var ways = map[string][]string{
 	"lexer":   {"array", "constant-table", "label", "method-value"},
 	"parser":  {"map", "panic", "defer", "recover"},
 	"printer": {"array", "embedding", "variadic", "fallthrough"},
+	"resolve": {"map", "range-function", "closure"},
 }
 
 // features say whether the files of a package use a language feature.
 var features = map[string]func(files []*ast.File) bool{
 	"array":          usesArray,
+	"closure":        usesClosure,
 	"constant-table": usesConstantTable,
 	"defer":          usesDefer,
 	"embedding":      usesEmbedding,
@@ -28,6 +30,7 @@ var features = map[string]func(files []*ast.File) bool{
 	"map":            usesMap,
 	"method-value":   usesMethodValue,
 	"panic":          calls("panic"),
+	"range-function": usesRangeFunction,
 	"recover":        calls("recover"),
 	"variadic":       usesVariadic,
 }
@@ -79,6 +82,13 @@ func usesArray(files []*ast.File) bool {
 	return anywhere(files, func(n ast.Node) bool {
 		array, ok := n.(*ast.ArrayType)
 		return ok && array.Len != nil
+	})
+}
+
+func usesClosure(files []*ast.File) bool {
+	return anywhere(files, func(n ast.Node) bool {
+		_, ok := n.(*ast.FuncLit)
+		return ok
 	})
 }
 
@@ -156,6 +166,49 @@ func calls(name string) func(files []*ast.File) bool {
 			return ok && f.Name == name
 		})
 	}
+}
+
+// usesRangeFunction looks for a range over what a function of the package returns, if that is an iterator.
+func usesRangeFunction(files []*ast.File) bool {
+	iterators := map[string]bool{}
+	anywhere(files, func(n ast.Node) bool {
+		if f, ok := n.(*ast.FuncDecl); ok && f.Type.Results != nil && isIterator(f.Type.Results.List[0].Type) {
+			iterators[f.Name.Name] = true
+		}
+		return false
+	})
+	return anywhere(files, func(n ast.Node) bool {
+		r, ok := n.(*ast.RangeStmt)
+		if !ok {
+			return false
+		}
+		call, ok := r.X.(*ast.CallExpr)
+		return ok && iterators[nameOf(call.Fun)]
+	})
+}
+
+// isIterator reports whether a type is iter.Seq or iter.Seq2 of some types.
+func isIterator(e ast.Expr) bool {
+	switch e := e.(type) {
+	case *ast.IndexExpr:
+		return isIterator(e.X)
+	case *ast.IndexListExpr:
+		return isIterator(e.X)
+	case *ast.SelectorExpr:
+		return nameOf(e.X) == "iter"
+	}
+	return false
+}
+
+// nameOf returns the name of a function or method, without what stands before it.
+func nameOf(e ast.Expr) string {
+	switch e := e.(type) {
+	case *ast.Ident:
+		return e.Name
+	case *ast.SelectorExpr:
+		return e.Sel.Name
+	}
+	return ""
 }
 
 func usesLabel(files []*ast.File) bool {
