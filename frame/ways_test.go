@@ -16,23 +16,25 @@ var ways = map[string][]string{
 	"parser":  {"map", "panic", "defer", "recover"},
 	"printer": {"array", "embedding", "variadic", "fallthrough"},
 	"resolve": {"map", "range-function", "closure"},
+	"typing":  {"closure", "panic", "defer", "recover", "map", "method-expression"},
 }
 
 // features say whether the files of a package use a language feature.
 var features = map[string]func(files []*ast.File) bool{
-	"array":          usesArray,
-	"closure":        usesClosure,
-	"constant-table": usesConstantTable,
-	"defer":          usesDefer,
-	"embedding":      usesEmbedding,
-	"fallthrough":    usesFallthrough,
-	"label":          usesLabel,
-	"map":            usesMap,
-	"method-value":   usesMethodValue,
-	"panic":          calls("panic"),
-	"range-function": usesRangeFunction,
-	"recover":        calls("recover"),
-	"variadic":       usesVariadic,
+	"array":             usesArray,
+	"closure":           usesClosure,
+	"constant-table":    usesConstantTable,
+	"defer":             usesDefer,
+	"embedding":         usesEmbedding,
+	"fallthrough":       usesFallthrough,
+	"label":             usesLabel,
+	"map":               usesMap,
+	"method-expression": usesMethodExpression,
+	"method-value":      usesMethodValue,
+	"panic":             calls("panic"),
+	"range-function":    usesRangeFunction,
+	"recover":           calls("recover"),
+	"variadic":          usesVariadic,
 }
 
 func TestWays(t *testing.T) {
@@ -237,4 +239,28 @@ func usesMethodValue(files []*ast.File) bool {
 		s, ok := n.(*ast.SelectorExpr)
 		return ok && methods[s.Sel.Name] && !called[s]
 	})
+}
+
+// usesMethodExpression looks for a method that is selected from a type of the package.
+func usesMethodExpression(files []*ast.File) bool {
+	types := map[string]bool{}
+	anywhere(files, func(n ast.Node) bool {
+		if t, ok := n.(*ast.TypeSpec); ok {
+			types[t.Name.Name] = true
+		}
+		return false
+	})
+	return anywhere(files, func(n ast.Node) bool {
+		s, ok := n.(*ast.SelectorExpr)
+		return ok && types[nameOf(pointedTo(s.X))]
+	})
+}
+
+// pointedTo returns the type T of a type (*T), and other expressions without parentheses.
+func pointedTo(e ast.Expr) ast.Expr {
+	e = ast.Unparen(e)
+	if star, ok := e.(*ast.StarExpr); ok {
+		return star.X
+	}
+	return e
 }
