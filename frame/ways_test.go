@@ -4,11 +4,15 @@ import (
 	"go/ast"
 	"go/parser"
 	"go/token"
+	"go/types"
 	"path/filepath"
 	"slices"
 	"strings"
 	"testing"
 )
+
+// positions are those of all files that are read.
+var positions = token.NewFileSet()
 
 // ways lists, for each layer that is built, the language features that the document names for it.
 var ways = map[string][]string{
@@ -17,6 +21,7 @@ var ways = map[string][]string{
 	"printer": {"array", "embedding", "variadic", "fallthrough"},
 	"resolve": {"map", "range-function", "closure"},
 	"typing":  {"closure", "panic", "defer", "recover", "map", "method-expression"},
+	"expr":    {"fallthrough", "closure", "generic-function", "array", "range-string"},
 }
 
 // features say whether the files of a package use a language feature.
@@ -27,12 +32,14 @@ var features = map[string]func(files []*ast.File) bool{
 	"defer":             usesDefer,
 	"embedding":         usesEmbedding,
 	"fallthrough":       usesFallthrough,
+	"generic-function":  usesGenericFunction,
 	"label":             usesLabel,
 	"map":               usesMap,
 	"method-expression": usesMethodExpression,
 	"method-value":      usesMethodValue,
 	"panic":             calls("panic"),
 	"range-function":    usesRangeFunction,
+	"range-string":      usesRangeString,
 	"recover":           calls("recover"),
 	"variadic":          usesVariadic,
 }
@@ -59,7 +66,7 @@ func sources(t *testing.T, layer string) []*ast.File {
 		if strings.HasSuffix(path, "_test.go") {
 			continue
 		}
-		file, err := parser.ParseFile(token.NewFileSet(), path, nil, 0)
+		file, err := parser.ParseFile(positions, path, nil, 0)
 		if err != nil {
 			t.Fatal(err)
 		}
@@ -135,6 +142,28 @@ func usesFallthrough(files []*ast.File) bool {
 	return anywhere(files, func(n ast.Node) bool {
 		branch, ok := n.(*ast.BranchStmt)
 		return ok && branch.Tok == token.FALLTHROUGH
+	})
+}
+
+func usesGenericFunction(files []*ast.File) bool {
+	return anywhere(files, func(n ast.Node) bool {
+		f, ok := n.(*ast.FuncType)
+		return ok && f.TypeParams != nil
+	})
+}
+
+// usesRangeString looks for a range over what is a string, as far as a package alone, without those that it imports, shows the types of its expressions.
+func usesRangeString(files []*ast.File) bool {
+	info := types.Info{Types: map[ast.Expr]types.TypeAndValue{}}
+	config := types.Config{Error: func(error) {}}
+	config.Check("layer", positions, files, &info)
+	return anywhere(files, func(n ast.Node) bool {
+		r, ok := n.(*ast.RangeStmt)
+		if !ok || info.TypeOf(r.X) == nil {
+			return false
+		}
+		basic, ok := info.TypeOf(r.X).Underlying().(*types.Basic)
+		return ok && basic.Info()&types.IsString != 0
 	})
 }
 
